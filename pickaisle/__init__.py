@@ -1,0 +1,1 @@
+"""Pickaisle finds least rounds through a warehouse of parallel aisles."""
