@@ -118,10 +118,10 @@ def small_tasks(house):
         Task(low, low, []),
         Task(low, high, []),
         Task(high, low, [places[1]]),
-        Task(high, high, [places[1], places[-2]]),
+        Task(high, high, sorted({places[1], places[-2]})),
         Task(low, crosses[1], places[-3:]),
         Task(crosses[1], crosses[1], places[::2][:4]),
-        Task(crosses[1], high, places[::3][-3:] + [places[1]] * (places[1] not in places[::3][-3:])),
+        Task(crosses[1], high, sorted({places[1], *places[::3][-3:]})),
     ]
 
 
