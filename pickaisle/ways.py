@@ -112,6 +112,24 @@ def check_cut(house, task, place, places):
     return True
 
 
+def places_along(house, links, place):
+    """Return a dict of True for all places to which the links of the list lead from the place, itself included."""
+    joined = {}
+    for link in links:
+        one, other = house.ends_of(link)
+        joined.setdefault(one, []).append(other)
+        joined.setdefault(other, []).append(one)
+    found = {place: True}
+    stack = [place]
+    while stack:
+        here = stack.pop()
+        for other in joined.get(here, []):
+            if other not in found:
+                found[other] = True
+                stack.append(other)
+    return found
+
+
 def check_round(house, task):
     """Raise InvalidPlace if the task does not fit, then Unreachable if it has no round."""
     mark = cut_off(house, task)

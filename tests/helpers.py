@@ -1,7 +1,10 @@
 """What the tests find in another way than the program: by going over everything in a small house."""
 
-from itertools import combinations
+from copy import deepcopy
+from heapq import heappop, heappush
+from itertools import combinations, product
 
+from pickaisle.errors import InvalidPlace
 from pickaisle.houses import House
 from pickaisle.tasks import Task
 
@@ -131,3 +134,228 @@ def house_state(house):
 
 def task_state(task):
     return (task.start, task.end, task.picks)
+
+
+def hanging(nodes, pairs):
+    """For each node the tuple of all nodes that hang together with it by the pairs, in one order for all of them."""
+    group = {node: node for node in nodes}
+    members = {node: [node] for node in nodes}
+    for one, other in pairs:
+        old, new = group[other], group[one]
+        if old != new:
+            for node in members[old]:
+                group[node] = new
+            members[new] += members.pop(old)
+    tuples = {name: tuple(sorted(together, key=str)) for name, together in members.items()}
+    return {node: tuples[group[node]] for node in nodes}
+
+
+def least_round_length(house, task):
+    """The length of a least round, from a search over all places and sets of passed picks; None if there is none."""
+    table = step_table(house)
+    begin = (task.start, frozenset(pick for pick in task.picks if pick == task.start))
+    numbers, queue = {}, [(0, 0, begin)]
+    added = 0
+    while queue:
+        length, _, (place, passed) = heappop(queue)
+        if (place, passed) in numbers:
+            continue
+        numbers[(place, passed)] = length
+        if place == task.end and len(passed) == len(task.picks):
+            return length
+        for other, more in table[place]:
+            added += 1
+            heappush(queue, (length + more, added, (other, passed | ({other} & set(task.picks)))))
+    return None
+
+
+def odd_places(task):
+    return [] if task.start == task.end else [task.start, task.end]
+
+
+def cross_heights(house):
+    return [sum(house.lengths[:number]) for number in range(len(house.lengths) + 1)]
+
+
+def named(numbers, groups):
+    """The kind with the numbers, its groups numbered anew in the order in which they come first."""
+    seen = [group for number, group in zip(numbers, groups) if number > 0]
+    order = sorted(set(seen), key=seen.index)
+    return tuple((number, order.index(group) + 1) if number > 0 else (0, 0) for number, group in zip(numbers, groups))
+
+
+def links_of_aisle(house, aisle):
+    """The links of the aisle and of the gap behind it, closed or not, with their places and lengths."""
+    return {link: row for link, row in all_links(house).items() if link[1] == aisle}
+
+
+def kind_behind(house, task, aisle, kind, numbers):
+    """The kind behind the aisle if its links and those behind it have these numbers, or None if this is no step."""
+    marks = {place for place in [task.start, task.end] + task.picks if place[0] == aisle}
+    if kind == "done":
+        return None if marks or any(numbers.values()) else "done"
+    links = links_of_aisle(house, aisle)
+    heights = cross_heights(house)
+    ahead = {height: (0, 0) if kind == "none" else kind[at] for at, height in enumerate(heights)}
+    places = [(aisle, height) for height in range(heights[-1] + 1)]
+    sums = {place: ahead.get(place[1], (0, 0))[0] for place in places}
+    pairs = [((aisle, height), ("group", group)) for height, (number, group) in ahead.items() if number > 0]
+    for link, number in numbers.items():
+        if number > 0 and link in house.closed:
+            return None
+        for place in links[link][:2]:
+            sums[place] = sums.get(place, 0) + number
+        if number > 0:
+            pairs.append(links[link][:2])
+    if any(sums[place] % 2 != (place in odd_places(task)) for place in places):
+        return None
+    nodes = set(places) | {node for pair in pairs for node in pair}
+    hung = hanging(nodes, pairs)
+    lots = {hung[place] for place in places if sums[place] > 0 or place in marks}
+    if any(not set(lot) & {(aisle, height) for height in heights} for lot in lots):
+        return None
+    overs = [numbers.get(("over", aisle, height), 0) for height in heights]
+    if any(overs):
+        groups = [hung[(aisle, height)] for height in heights]
+        met = {group for group, number in zip(groups, overs) if number > 0}
+        return named(overs, groups) if lots == met else None
+    if kind == "none" and not marks:
+        return None if lots else "none"
+    return "done" if len(lots) == 1 else None
+
+
+def all_numbers(house, links):
+    """All dicts from the links to 0, 1 and 2, those that are closed always having 0."""
+    for chosen in product(*[(0,) if link in house.closed else (0, 1, 2) for link in links]):
+        yield dict(zip(links, chosen))
+
+
+def large_house():
+    """A house at the bounds of the document, with closed links in its aisles and gaps."""
+    widths = [1 + (7 * gap) % 40 for gap in range(10)] + [40]
+    closed = [("up", 2, 41), ("up", 5, 10), ("up", 7, 12), ("up", 7, 40), ("over", 3, 40), ("over", 8, 0)]
+    return House([40, 40], widths, closed)
+
+
+def large_task():
+    """A task with 60 picks for it, with two ends and a round."""
+    return Task((4, 80), (9, 0), [(aisle, 3 + (11 * aisle + 17 * step) % 78) for aisle in range(12) for step in range(5)])
+
+
+def wrong_tasks(house):
+    """Tasks that do not fit the house, with the first wrong place of each."""
+    last, top = len(house.gaps), sum(house.lengths)
+    inside = min(set(range(1, top)) - set(cross_heights(house)), default=top + 1)
+    return [
+        (Task((0, -1), (last + 1, 0), [(-1, 0)]), (0, -1)),
+        (Task((last, inside), (0, 0), []), (last, inside)),
+        (Task((0, 0), (last, inside), [(-1, 0)]), (last, inside)),
+        (Task((0, 0), (-1, 0), [(-1, 0)]), (-1, 0)),
+        (Task((0, top), (0, 0), [(last, top + 1), (0, 1), (0, top + 1)]), (0, top + 1)),
+        (Task((last, 0), (last, 0), [(last + 1, 0), (0, 0)]), (last + 1, 0)),
+    ]
+
+
+def refuse_wrong_tasks(case, house, call):
+    """Assert that the call raises InvalidPlace with the first wrong place, and changes nothing."""
+    for task, place in wrong_tasks(house):
+        before = (house_state(house), task_state(task))
+        with case.assertRaises(InvalidPlace) as caught:
+            call(house, task)
+        case.assertEqual(caught.exception.place, place)
+        case.assertEqual((house_state(house), task_state(task)), before)
+
+
+def assert_new_and_nothing_changed(case, house, task, call):
+    """Assert that the call changes nothing, and returns a list or dict that is new each time, with all in it."""
+    before = (house_state(house), task_state(task))
+    first = call(house, task)
+    wanted = deepcopy(first)
+    empty_out(first)
+    case.assertEqual(call(house, task), wanted)
+    case.assertEqual((house_state(house), task_state(task)), before)
+
+
+def empty_out(value):
+    """Empty a list or dict, and all those that stand in it."""
+    for inner in list(value.values()) if isinstance(value, dict) else list(value):
+        if isinstance(inner, (list, dict)):
+            empty_out(inner)
+    value.clear()
+
+
+def is_plan(house, task, plan):
+    """Tell by the words of point [41] whether a dict from links that are not closed to 1 or 2 is a plan of the task."""
+    links = all_links(house)
+    sums = {place: 0 for place in all_places(house)}
+    for link, number in plan.items():
+        for place in links[link][:2]:
+            sums[place] += number
+    if any(sums[place] % 2 != (place in odd_places(task)) for place in sums):
+        return False
+    touched = {place for link in plan for place in links[link][:2]} | {task.start, task.end, *task.picks}
+    hung = hanging(touched, [links[link][:2] for link in plan])
+    return set(hung[task.start]) == touched
+
+
+def all_plans(house, task):
+    """All plans of the task in a very small house."""
+    plans = [{link: number for link, number in numbers.items() if number > 0}
+             for numbers in all_numbers(house, list(all_links(house)))]
+    return [plan for plan in plans if is_plan(house, task, plan)]
+
+
+def plan_size(house, plan):
+    """The length of a plan."""
+    return sum(all_links(house)[link][2] * number for link, number in plan.items())
+
+
+def kind_at(house, task, plan, gap):
+    """The kind of a plan at a gap, by the words of point [33]."""
+    numbers = [plan.get(("over", gap, height), 0) for height in cross_heights(house)]
+    if not any(numbers):
+        return "done" if any(place[0] <= gap for place in [task.start, task.end] + task.picks) else "none"
+    ahead = [link for link in plan if link[1] < gap or (link[0] == "up" and link[1] == gap)]
+    places = [place for place in all_places(house) if place[0] <= gap]
+    hung = hanging(places, [all_links(house)[link][:2] for link in ahead])
+    return named(numbers, [hung[(gap, height)] for height in cross_heights(house)])
+
+
+def plan_by(house, walk):
+    """The plan of a walk, by the words of point [42]."""
+    times = {}
+    for pair in zip(walk, walk[1:]):
+        for link, row in all_links(house).items():
+            if row[:2] == (min(pair), max(pair)):
+                times[link] = times.get(link, 0) + 1
+    return {link: 2 - number % 2 for link, number in times.items()}
+
+
+def chance_walk(house, start, many, chance):
+    """A walk of so many links, each taken by chance."""
+    table = step_table(house)
+    walk = [start]
+    for _ in range(many):
+        if table[walk[-1]]:
+            walk.append(chance.choice(table[walk[-1]])[0])
+    return walk
+
+
+def plan_houses():
+    """Very small houses, in which all plans can be gone through."""
+    return [House([1], [1, 1], []), House([2], [1], []), House([1, 1], [2], []), House([2], [], []),
+            House([1, 1], [1], [("over", 0, 1)]), House([1], [2, 1], [("up", 1, 0)])]
+
+
+def all_kinds(heights):
+    """All kinds for so many cross heights, each with the numbers of odd places that it fits."""
+    rows = [(number, group) for number in (0, 1, 2) for group in range(heights + 1)]
+    kinds = {"none": [0], "done": [0, 2]}
+    for value in product(rows, repeat=heights):
+        numbers, groups = zip(*value)
+        if any(numbers) and named(numbers, groups) == value:
+            sums = [sum(number for number, group in value if group == told) for told in sorted(set(groups) - {0})]
+            many = len([total for total in sums if total % 2])
+            if many <= 2:
+                kinds[value] = [0, 2] if many == 0 else [many]
+    return kinds
