@@ -1,6 +1,6 @@
 """Junctions: the cross places of an aisle, and what steps through it lead to behind it."""
 
-from pickaisle.kinds import DONE, NONE, kind_from
+from pickaisle.kinds import DONE, NONE, is_odd, kind_from
 
 
 class Junction:
@@ -12,7 +12,7 @@ class Junction:
         self._numbers = list(range(len(crosses)))
         self._marked = [(aisle, height) in marks for height in crosses]
         self._has_marks = any(place[0] == aisle for place in marks)
-        self._odd = [_oddness(task, (aisle, height)) for height in crosses]
+        self._odd = [is_odd(task, (aisle, height)) for height in crosses]
         self._open = [_is_open(house, ("over", aisle, height)) for height in crosses]
         self._width = (house.gaps + [0])[aisle]
         self._found = {}
@@ -68,7 +68,7 @@ class Junction:
         """All tuples of numbers behind that make the sums at the cross places right, ascending."""
         rows = [()]
         for number in self._numbers:
-            if (sums[number] + self._odd[number]) % 2 == 1:
+            if (sums[number] % 2 == 1) != self._odd[number]:
                 choices = [1] if self._open[number] else []
             else:
                 choices = [0, 2] if self._open[number] else [0]
@@ -86,11 +86,6 @@ class Junction:
         if kind == NONE and not self._has_marks:
             return None if lots else NONE
         return DONE if len(lots) == 1 else None
-
-
-def _oddness(task, place):
-    """1 if the place is odd in the task, otherwise 0."""
-    return 1 if task.start != task.end and place in (task.start, task.end) else 0
 
 
 def _is_open(house, link):

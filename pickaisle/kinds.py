@@ -8,11 +8,14 @@ DONE = "done"
 MOST_ODD = 2
 
 
+def is_odd(task, place):
+    """Tell whether the place is odd in the task: one of two ends."""
+    return task.start != task.end and place in (task.start, task.end)
+
+
 def odd_at(task, gap):
     """Return how many odd places stand in the aisles up to the gap."""
-    if task.start == task.end:
-        return 0
-    return len([place for place in [task.start, task.end] if place[0] <= gap])
+    return len([place for place in [task.start, task.end] if is_odd(task, place) and place[0] <= gap])
 
 
 def kinds_of(heights, odd):

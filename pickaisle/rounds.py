@@ -15,13 +15,17 @@ def walk_fault(house, walk):
     return None
 
 
-def walk_length(house, walk):
-    """Return the length of the walk."""
+def links_of_walk(house, walk):
+    """Return the list of the links along which the walk goes, one after another."""
     fault = walk_fault(house, walk)
     if fault is not None:
         raise InvalidWalk(fault)
-    links = [house.link_between(one, other) for one, other in zip(walk, walk[1:])]
-    return sum([house.length_of(link) for link in links])
+    return [house.link_between(one, other) for one, other in zip(walk, walk[1:])]
+
+
+def walk_length(house, walk):
+    """Return the length of the walk."""
+    return sum([house.length_of(link) for link in links_of_walk(house, walk)])
 
 
 def missed(task, walk):

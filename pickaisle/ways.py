@@ -112,18 +112,30 @@ def check_cut(house, task, place, places):
     return True
 
 
+def links_at(house, links):
+    """Return a dict from each place that a link of the list joins to the list of its links."""
+    found = {}
+    for link in links:
+        for place in house.ends_of(link):
+            found.setdefault(place, []).append(link)
+    return found
+
+
+def far_end(house, link, place):
+    """Return the place that the link joins to the place."""
+    one, other = house.ends_of(link)
+    return other if one == place else one
+
+
 def places_along(house, links, place):
     """Return a dict of True for all places to which the links of the list lead from the place, itself included."""
-    joined = {}
-    for link in links:
-        one, other = house.ends_of(link)
-        joined.setdefault(one, []).append(other)
-        joined.setdefault(other, []).append(one)
+    joined = links_at(house, links)
     found = {place: True}
     stack = [place]
     while stack:
         here = stack.pop()
-        for other in joined.get(here, []):
+        for link in joined.get(here, []):
+            other = far_end(house, link, here)
             if other not in found:
                 found[other] = True
                 stack.append(other)

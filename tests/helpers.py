@@ -239,7 +239,8 @@ def large_house():
 
 def large_task():
     """A task with 60 picks for it, with two ends and a round."""
-    return Task((4, 80), (9, 0), [(aisle, 3 + (11 * aisle + 17 * step) % 78) for aisle in range(12) for step in range(5)])
+    picks = [(aisle, 3 + (11 * aisle + 17 * step) % 78) for aisle in range(12) for step in range(5)]
+    return Task((4, 80), (9, 0), picks)
 
 
 def wrong_tasks(house):
@@ -321,14 +322,19 @@ def kind_at(house, task, plan, gap):
     return named(numbers, [hung[(gap, height)] for height in cross_heights(house)])
 
 
-def plan_by(house, walk):
-    """The plan of a walk, by the words of point [42]."""
+def times_of(house, walk):
+    """How often the walk goes along each link."""
+    links = {row[:2]: link for link, row in all_links(house).items()}
     times = {}
     for pair in zip(walk, walk[1:]):
-        for link, row in all_links(house).items():
-            if row[:2] == (min(pair), max(pair)):
-                times[link] = times.get(link, 0) + 1
-    return {link: 2 - number % 2 for link, number in times.items()}
+        link = links[(min(pair), max(pair))]
+        times[link] = times.get(link, 0) + 1
+    return times
+
+
+def plan_by(house, walk):
+    """The plan of a walk, by the words of point [42]."""
+    return {link: 2 - number % 2 for link, number in times_of(house, walk).items()}
 
 
 def chance_walk(house, start, many, chance):

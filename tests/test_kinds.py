@@ -96,7 +96,8 @@ class IsKind(unittest.TestCase):
                 self.assertIs(is_kind(heights, ((0, 0),) * length), False)
 
     def test_far_off_numbers(self):
-        for value in [((2, 10 ** 30), (0, 0)), ((10 ** 30, 1), (0, 0)), ((2, 1), (2, -10 ** 30)), ((0, 10 ** 30), (2, 1))]:
+        for value in [((2, 10 ** 30), (0, 0)), ((10 ** 30, 1), (0, 0)), ((2, 1), (2, -10 ** 30)),
+                      ((0, 10 ** 30), (2, 1))]:
             self.assertIs(is_kind(2, value), False)
 
     def test_three_odd_groups_fit_nothing(self):
@@ -153,7 +154,8 @@ class KindOf(unittest.TestCase):
         task = Task((0, 0), (0, 0), [(0, 2), (1, 1)])
         plan = {("over", 0, 0): 2, ("over", 0, 2): 2, ("up", 1, 0): 2, ("up", 1, 1): 2}
         self.assertEqual(kind_of(house, task, plan, 0), ((2, 1), (0, 0), (2, 2)))
-        plan = {("over", 0, 0): 1, ("over", 0, 2): 1, ("up", 1, 0): 1, ("up", 1, 1): 1, ("up", 0, 0): 1, ("up", 0, 1): 1}
+        plan = {("over", 0, 0): 1, ("over", 0, 2): 1, ("up", 1, 0): 1, ("up", 1, 1): 1, ("up", 0, 0): 1,
+                ("up", 0, 1): 1}
         self.assertEqual(kind_of(house, task, plan, 0), ((1, 1), (0, 0), (1, 1)))
 
     def test_no_links_at_the_gap(self):
