@@ -18,9 +18,7 @@ def marks_inside(house, task, aisle, stretch):
 
 def pieces_of(house, task, aisle, stretch):
     """Return the list of the pieces of the stretch of the aisle, from below."""
-    inside = marks_inside(house, task, aisle, stretch)
-    low, high = ends_of_stretch(house, stretch)
-    return list(zip([low] + inside, inside + [high]))
+    return _pieces_between(house, stretch, marks_inside(house, task, aisle, stretch))
 
 
 def is_free(house, aisle, piece):
@@ -31,7 +29,17 @@ def is_free(house, aisle, piece):
 
 def options_of(house, task, aisle, stretch):
     """Return the list of all options of the stretch of the aisle."""
-    pieces = pieces_of(house, task, aisle, stretch)
+    return options_between(house, aisle, stretch, marks_inside(house, task, aisle, stretch))
+
+
+def best_options(house, task, aisle, stretch):
+    """Return the list of the first least option of those with each same low, high and joins."""
+    return best_between(house, aisle, stretch, marks_inside(house, task, aisle, stretch))
+
+
+def options_between(house, aisle, stretch, inside):
+    """Return what options_of returns, for a stretch with marks inside at these heights, ascending."""
+    pieces = _pieces_between(house, stretch, inside)
     closed = [piece for piece in pieces if not is_free(house, aisle, piece)]
     low, high = ends_of_stretch(house, stretch)
     options = []
@@ -43,15 +51,21 @@ def options_of(house, task, aisle, stretch):
     return options
 
 
-def best_options(house, task, aisle, stretch):
-    """Return the list of the first least option of those with each same low, high and joins."""
-    options = options_of(house, task, aisle, stretch)
+def best_between(house, aisle, stretch, inside):
+    """Return what best_options returns, for a stretch with marks inside at these heights, ascending."""
+    options = options_between(house, aisle, stretch, inside)
     best = {}
     for option in options:
         signs = option[1:4]
         if signs not in best or option[0] < best[signs][0]:
             best[signs] = option
     return [option for option in options if option == best[option[1:4]]]
+
+
+def _pieces_between(house, stretch, inside):
+    """The pieces of a stretch with marks inside at these heights, from below."""
+    low, high = ends_of_stretch(house, stretch)
+    return list(zip([low] + inside, inside + [high]))
 
 
 def _option_without(low, high, piece):

@@ -29,7 +29,7 @@ def best_steps(house, task, aisle, kind):
 
 def table(house, task, aisle):
     """Return a dict from tuples of a kind ahead and a kind behind to the least lengths of steps between them."""
-    return _table_from(house, task, aisle, kinds_ahead(house, task, aisle))
+    return table_from(house, task, aisle, kinds_ahead(house, task, aisle))
 
 
 def product(first, second):
@@ -60,7 +60,7 @@ def lengths_from(house, task):
     for aisle in range(house.aisles):
         last = dicts[-1]
         ahead = {(NONE, kind): length for kind, length in last.items()}
-        reached = product(ahead, _table_from(house, task, aisle, list(last)))
+        reached = product(ahead, table_from(house, task, aisle, list(last)))
         dicts.append({kind: length for (_, kind), length in reached.items()})
     return dicts
 
@@ -94,7 +94,7 @@ def _steps_with(junction, rows, kind):
     return found
 
 
-def _table_from(house, task, aisle, kinds):
+def table_from(house, task, aisle, kinds):
     """The table of the aisle, as far as it tells of these kinds ahead."""
     junction = Junction(house, task, aisle)
     rows = _best_rows(house, task, aisle)
