@@ -67,8 +67,8 @@ def _row(head, numbers):
     return " ".join([head] + [str(number) for number in numbers])
 
 
-def _is_number(word):
-    """Tell whether the word has the form of a number."""
+def is_number(word):
+    """Tell whether the word has the form of a number that is read."""
     if not word.isdigit() or len(word) > MOST_DIGITS:
         return False
     return word == "0" or not word.startswith("0")
@@ -76,7 +76,7 @@ def _is_number(word):
 
 def _numbers_of(words, number):
     """The numbers that the words of the line with this number write."""
-    if not all(_is_number(word) for word in words):
+    if not all(is_number(word) for word in words):
         raise InvalidNotation(number)
     return [int(word) for word in words]
 
