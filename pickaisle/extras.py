@@ -1,8 +1,8 @@
 """What picks cost: by how much the length of a least round grows with a pick, or becomes less without it."""
 
 from pickaisle.errors import InvalidPlace, Unreachable
-from pickaisle.kinds import DONE, NONE
-from pickaisle.layers import all_layers, heights_of, layers_of, lengths_through, lengths_to_done
+from pickaisle.kinds import DONE
+from pickaisle.layers import all_layers, heights_of, layers_of, lengths_past, lengths_to_done
 from pickaisle.pieces import best_between
 from pickaisle.profiles import Profiles
 from pickaisle.tables import least_length, lengths_from
@@ -13,9 +13,8 @@ from pickaisle.ways import cut_off
 def lengths_behind(house, task):
     """Return a list of dicts: for each kind that lengths_from tells there, the least sum of the steps to "done"."""
     check_task(house, task)
-    layers = all_layers(house, task, Profiles(), best_between)
-    dicts = lengths_to_done(layers, [NONE])
-    return dicts[::len(layers) // house.aisles]
+    layers = all_layers(house, task, best_between)
+    return lengths_to_done(layers)[::len(layers) // house.aisles]
 
 
 def extra(house, task, place):
@@ -73,7 +72,5 @@ def _length_by_way_of(layers, ahead, behind):
     What lies ahead and behind does not hang on the picks of the aisle. A pick more leads to no other kinds behind it,
     except to "done" from "none", and from there the aisle of the start, which then lies behind, cannot be passed.
     """
-    lengths = ahead
-    for layer in layers:
-        lengths = lengths_through(layer, lengths)
+    lengths = lengths_past(layers, ahead)
     return min([length + behind[kind] for kind, length in lengths.items() if kind in behind], default=None)

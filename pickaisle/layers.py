@@ -5,7 +5,7 @@ A layer leads from states ahead of it to states behind it: kinds at the gaps, pr
 
 from pickaisle.kinds import DONE, NONE, is_odd
 from pickaisle.pieces import ends_of_stretch
-from pickaisle.profiles import SOME, leaving
+from pickaisle.profiles import SOME, Profiles, leaving
 
 
 class EntryLayer:
@@ -26,10 +26,10 @@ class EntryLayer:
         word = kind if kind in (NONE, DONE) and not self._has_marks else SOME
         rows = [(0, 0) for _ in self._odds] if kind in (NONE, DONE) else kind
         odds = [(number + odd) % 2 for (number, _), odd in zip(rows, self._odds)]
-        lots = [group for _, group in rows]
-        for place, marked in enumerate(self._marked):
-            if marked and lots[place] == 0:
-                lots[place] = max(lots) + 1
+        groups = [group for _, group in rows]
+        lots = []
+        for place, group in enumerate(groups):
+            lots.append(groups.index(group) + 1 if group > 0 else place + 1 if self._marked[place] else 0)
         return [(self._profiles.profile(word, odds, lots), 0, ())]
 
     def numbers(self, choice):
@@ -43,15 +43,14 @@ class StretchLayer:
     def __init__(self, house, aisle, stretch, options, profiles):
         self._profiles = profiles
         self._aisle = aisle
-        self._stretch = stretch
         self._ends = ends_of_stretch(house, stretch)
-        self._options = [(option, option[0], option[1:4]) for option in options]
+        self._options = [(option, option[0], (stretch,) + option[1:4]) for option in options]
 
     def leads(self, profile):
         """Return the list of the tuples (state behind, length, choice) for this state ahead."""
         found = []
-        for option, length, signs in self._options:
-            behind = self._profiles.after(profile, self._stretch, signs)
+        for option, length, part in self._options:
+            behind = self._profiles.after(profile, part)
             if behind is not None:
                 found.append((behind, length, option))
         return found
@@ -72,17 +71,13 @@ class GapLayer:
     def __init__(self, house, aisle):
         links = [("over", aisle, height) for height in house.crosses()]
         # Behind the last aisle there are no links, so that none of them is open.
-        self._closed = [number for number, link in enumerate(links) if not _is_open(house, link)]
+        self._are_open = tuple([house.is_link(link) and not house.is_closed(link) for link in links])
         self._links = [link for link in links if house.is_link(link)]
         self._width = (house.gaps + [0])[aisle]
 
     def leads(self, profile):
         """Return the list of the tuples (state behind, length, choice) for this state ahead."""
-        found = []
-        for kind, many, overs in leaving(profile):
-            if not any([overs[number] for number in self._closed]):
-                found.append((kind, many * self._width, overs))
-        return found
+        return [(kind, many * self._width, overs) for kind, many, overs in leaving(profile, self._are_open)]
 
     def numbers(self, choice):
         """Return the tuples of each link of the layer, closed or not, and its number by the choice."""
@@ -107,8 +102,9 @@ def heights_of(task, aisle):
     return [height for number, height in task.picks if number == aisle]
 
 
-def all_layers(house, task, profiles, find_options):
+def all_layers(house, task, find_options):
     """Return the list of the layers of all aisles, one after another."""
+    profiles = Profiles()
     layers = []
     for aisle in range(house.aisles):
         layers.extend(layers_of(house, task, aisle, heights_of(task, aisle), profiles, find_options))
@@ -126,6 +122,13 @@ def lengths_through(layer, lengths):
     return found
 
 
+def lengths_past(layers, lengths):
+    """Return the least lengths of the states behind all layers, from those of the states ahead of the first one."""
+    for layer in layers:
+        lengths = lengths_through(layer, lengths)
+    return lengths
+
+
 def lengths_back(layer, states, lengths):
     """Return the least lengths that lie behind the states ahead of the layer, from those behind the layer."""
     found = {}
@@ -136,20 +139,15 @@ def lengths_back(layer, states, lengths):
     return found
 
 
-def lengths_to_done(layers, states):
+def lengths_to_done(layers):
     """Return a list of dicts, one more than the layers: for each state the least length from it to "done".
 
-    States that no row of leads joins to those given ahead of the first layer, or to "done", have none.
+    Only states to which a row of leads comes from "none", and from which one leads to "done", stand there.
     """
-    reached = [{state: 0 for state in states}]
+    reached = [{NONE: 0}]
     for layer in layers:
         reached.append(lengths_through(layer, reached[-1]))
     dicts = [{DONE: 0} if DONE in reached[-1] else {}]
     for number in reversed(range(len(layers))):
         dicts.append(lengths_back(layers[number], list(reached[number]), dicts[-1]))
     return dicts[::-1]
-
-
-def _is_open(house, link):
-    """Tell whether the link is one of the house that is not closed."""
-    return house.is_link(link) and not house.is_closed(link)

@@ -4,7 +4,6 @@ from pickaisle.errors import TooLarge, Unreachable
 from pickaisle.kinds import DONE, NONE
 from pickaisle.layers import all_layers, lengths_to_done
 from pickaisle.pieces import options_between
-from pickaisle.profiles import Profiles
 from pickaisle.tasks import check_task
 from pickaisle.ways import cut_off
 
@@ -57,8 +56,8 @@ def _least_leads(house, task):
     The numbers are tuples (link, number) for all links of the layer. A state stands there if least plans come to it.
     """
     check_task(house, task)
-    layers = all_layers(house, task, Profiles(), options_between)
-    lengths = lengths_to_done(layers, [NONE])
+    layers = all_layers(house, task, options_between)
+    lengths = lengths_to_done(layers)
     if DONE not in lengths[-1]:
         raise Unreachable(cut_off(house, task))
     rows = []

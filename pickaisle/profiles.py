@@ -10,7 +10,8 @@ class Profile:
 
     The word is "done" if the aisle was come to from this kind, "none" if from this kind and no mark stands in the
     aisle, otherwise "some". For each cross place from below, odds has 1 if the sum of its numbers so far is odd,
-    counted as even at odd places, otherwise 0; and lots has the number of its lot, or 0 if it is in none.
+    counted as even at odd places, otherwise 0; and lots has the number, counted from 1, of the lowest place of its
+    lot, or 0 if it is in none.
     """
 
     def __init__(self, word, odds, lots):
@@ -19,7 +20,7 @@ class Profile:
         self.lots = lots
         # What follows from this profile is kept here, as it is asked for in each aisle again.
         self.onward = {}
-        self.leaving = None
+        self.leaving = {}
 
 
 class Profiles:
@@ -29,49 +30,55 @@ class Profiles:
         self._made = {}
 
     def profile(self, word, odds, lots):
-        """Return the profile with the lots numbered from 1 on in the order in which they come first."""
-        numbers = {0: 0}
-        numbered = tuple([numbers.setdefault(lot, len(numbers)) for lot in lots])
-        key = (word, tuple(odds), numbered)
+        """Return the profile with this word and these lists."""
+        key = (word, tuple(odds), tuple(lots))
         if key not in self._made:
-            self._made[key] = Profile(word, key[1], numbered)
+            self._made[key] = Profile(word, key[1], key[2])
         return self._made[key]
 
-    def after(self, profile, stretch, signs):
-        """Return the profile behind a stretch whose option has the signs (low, high, joins), or None."""
-        key = (stretch, signs)
-        if key not in profile.onward:
-            profile.onward[key] = self._find_after(profile, stretch, signs)
-        return profile.onward[key]
+    def after(self, profile, part):
+        """Return the profile behind a part, a tuple (stretch, low, high, joins) of an option; or None."""
+        if part not in profile.onward:
+            profile.onward[part] = self._find_after(profile, part)
+        return profile.onward[part]
 
-    def _find_after(self, profile, stretch, signs):
+    def _find_after(self, profile, part):
         """What after returns, found anew."""
-        low, high, joins = signs
+        stretch, low, high, joins = part
+        if low + high == 0:
+            return profile
         if profile.word == DONE:
-            return profile if low + high == 0 else None
+            return None
         odds, lots = list(profile.odds), list(profile.lots)
         for place, number in [(stretch, low), (stretch + 1, high)]:
-            odds[place] = (odds[place] + number) % 2
-            if number > 0 and lots[place] == 0:
-                lots[place] = max(lots) + 1
+            if number > 0:
+                odds[place] = (odds[place] + number) % 2
+                lots[place] = lots[place] or place + 1
         if joins:
-            one, other = lots[stretch], lots[stretch + 1]
-            lots = [one if lot == other else lot for lot in lots]
+            lower, upper = sorted(lots[stretch:stretch + 2])
+            lots = [lower if lot == upper else lot for lot in lots]
         return self.profile(profile.word, odds, lots)
 
 
-def leaving(profile):
-    """Return a tuple of all (kind behind, sum of the numbers behind, numbers behind), if no link behind is closed."""
-    if profile.leaving is None:
-        profile.leaving = tuple(_find_leaving(profile))
-    return profile.leaving
+def leaving(profile, are_open):
+    """Return a tuple of all (kind behind, sum of the numbers behind, numbers behind), by these numbers ascending.
+
+    The tuple are_open tells for each cross place whether there is an over link behind that is not closed.
+    """
+    if are_open not in profile.leaving:
+        profile.leaving[are_open] = tuple(_find_leaving(profile, are_open))
+    return profile.leaving[are_open]
 
 
-def _find_leaving(profile):
-    """What leaving returns, found anew, by the numbers behind ascending."""
+def _find_leaving(profile, are_open):
+    """What leaving returns, found anew."""
     rows = [()]
-    for odd in profile.odds:
-        rows = [row + (number,) for row in rows for number in ([1] if odd == 1 else [0, 2])]
+    for odd, is_open in zip(profile.odds, are_open):
+        if odd == 1:
+            numbers = [1] if is_open else []
+        else:
+            numbers = [0, 2] if is_open else [0]
+        rows = [row + (number,) for row in rows for number in numbers]
     found = []
     for overs in rows:
         kind = _kind_with(profile, overs) if any(overs) else _kind_without(profile)
@@ -82,17 +89,16 @@ def _find_leaving(profile):
 
 def _kind_with(profile, overs):
     """The kind behind the aisle with these numbers behind, some of them above 0; or None."""
-    lots = profile.lots
-    met = [lot for lot, number in zip(lots, overs) if number > 0]
-    if profile.word == DONE or any(lot > 0 and lot not in met for lot in lots):
+    met = [lot for lot, number in zip(profile.lots, overs) if number > 0]
+    if profile.word == DONE or any([lot > 0 and lot not in met for lot in profile.lots]):
         return None
     # A place that is in no lot gets one of its own by its link behind.
-    return kind_from(overs, [lot if lot > 0 else -1 - place for place, lot in enumerate(lots)])
+    return kind_from(overs, [lot or place for place, lot in enumerate(profile.lots, start=1)])
 
 
 def _kind_without(profile):
     """The kind behind the aisle if no link behind is walked, or None."""
-    most = max(profile.lots)
+    lots = [lot for lot in profile.lots if lot > 0]
     if profile.word == NONE:
-        return NONE if most == 0 else None
-    return DONE if profile.word == DONE or most == 1 else None
+        return None if lots else NONE
+    return DONE if profile.word == DONE or (lots and min(lots) == max(lots)) else None

@@ -1,8 +1,9 @@
 """Steps through an aisle, tables of their least lengths, and the length of a least round."""
 
-from pickaisle.junctions import Junction
 from pickaisle.kinds import DONE, NONE, kinds_of, odd_at
-from pickaisle.pieces import best_options, options_of
+from pickaisle.layers import heights_of, layers_of, lengths_past
+from pickaisle.pieces import best_between, options_between
+from pickaisle.profiles import Profiles
 from pickaisle.tasks import check_task
 
 
@@ -17,14 +18,13 @@ def kinds_ahead(house, task, aisle):
 def steps(house, task, aisle, kind):
     """Return the list of all steps through the aisle from the kind."""
     check_task(house, task)
-    options = [options_of(house, task, aisle, stretch) for stretch, _ in enumerate(house.lengths)]
-    return _steps_with(Junction(house, task, aisle), _rows_of(options), kind)
+    return _steps_by(_layers_at(house, task, aisle, options_between), kind)
 
 
 def best_steps(house, task, aisle, kind):
     """Return the list of the steps through the aisle from the kind that have best options alone."""
     check_task(house, task)
-    return _steps_with(Junction(house, task, aisle), _best_rows(house, task, aisle), kind)
+    return _steps_by(_layers_at(house, task, aisle, best_between), kind)
 
 
 def table(house, task, aisle):
@@ -34,15 +34,20 @@ def table(house, task, aisle):
 
 def product(first, second):
     """Return the product of the two tables."""
+    # The kinds behind are numbered, as they are looked up again and again, and numbers are found faster than kinds.
+    numbers = {}
     onward = {}
     for (kind, behind), length in second.items():
-        onward.setdefault(kind, []).append((behind, length))
-    found = {}
+        onward.setdefault(kind, []).append((numbers.setdefault(behind, len(numbers)), length))
+    rows = {}
     for (ahead, kind), length in first.items():
-        for behind, more in onward.get(kind, []):
+        row = rows.setdefault(ahead, {})
+        for number, more in onward.get(kind, []):
             whole = length + more
-            found[(ahead, behind)] = min(whole, found.get((ahead, behind), whole))
-    return found
+            if number not in row or whole < row[number]:
+                row[number] = whole
+    kinds = list(numbers)
+    return {(ahead, kinds[number]): length for ahead, row in rows.items() for number, length in row.items()}
 
 
 def product_of(house, task, first, last):
@@ -57,11 +62,10 @@ def lengths_from(house, task):
     """Return a list of dicts: for each kind behind the aisles so far the least sum of the lengths of steps to it."""
     check_task(house, task)
     dicts = [{NONE: 0}]
+    profiles = Profiles()
     for aisle in range(house.aisles):
-        last = dicts[-1]
-        ahead = {(NONE, kind): length for kind, length in last.items()}
-        reached = product(ahead, table_from(house, task, aisle, list(last)))
-        dicts.append({kind: length for (_, kind), length in reached.items()})
+        layers = layers_of(house, task, aisle, heights_of(task, aisle), profiles, best_between)
+        dicts.append(lengths_past(layers, dicts[-1]))
     return dicts
 
 
@@ -70,36 +74,26 @@ def least_length(house, task):
     return lengths_from(house, task)[-1].get(DONE)
 
 
-def _rows_of(options):
-    """All tuples of an option for each stretch, in the order of the options stretch by stretch from below."""
-    rows = [()]
-    for choices in options:
-        rows = [row + (option,) for row in rows for option in choices]
-    return rows
-
-
-def _best_rows(house, task, aisle):
-    """All tuples of a best option for each stretch of the aisle."""
-    return _rows_of([best_options(house, task, aisle, stretch) for stretch, _ in enumerate(house.lengths)])
-
-
-def _steps_with(junction, rows, kind):
-    """The steps from the kind with the tuples of options, in their order."""
-    found = []
-    for ups in rows:
-        length = sum([option[0] for option in ups])
-        ends = tuple([option[1:4] for option in ups])
-        for behind, more, overs in junction.leads(kind, ends):
-            found.append((behind, length + more, ups, overs))
-    return found
-
-
 def table_from(house, task, aisle, kinds):
-    """The table of the aisle, as far as it tells of these kinds ahead."""
-    junction = Junction(house, task, aisle)
-    rows = _best_rows(house, task, aisle)
+    """Return the table of the aisle, as far as it tells of these kinds ahead."""
+    layers = _layers_at(house, task, aisle, best_between)
     found = {}
     for kind in kinds:
-        for behind, length, _, _ in _steps_with(junction, rows, kind):
-            found[(kind, behind)] = min(length, found.get((kind, behind), length))
+        for behind, length in lengths_past(layers, {kind: 0}).items():
+            found[(kind, behind)] = length
     return found
+
+
+def _layers_at(house, task, aisle, find_options):
+    """The layers of the aisle, whose stretches have the options that the function finds."""
+    return layers_of(house, task, aisle, heights_of(task, aisle), Profiles(), find_options)
+
+
+def _steps_by(layers, kind):
+    """The steps from the kind through an aisle with these layers, in the order of their choices."""
+    rows = [(kind, 0, ())]
+    for layer in layers:
+        rows = [(behind, length + more, choices + (choice,)) for state, length, choices in rows
+                for behind, more, choice in layer.leads(state)]
+    # At coming in there is nothing to choose, so that the first choice tells nothing.
+    return [(behind, length, choices[1:-1], choices[-1]) for behind, length, choices in rows]

@@ -24,29 +24,26 @@ def state(desk):
     return (helpers.house_state(desk.house_now()), helpers.task_state(desk.task_now()))
 
 
+def states_by(desk, call, error):
+    """The states to which a call leads again and again until it raises this error."""
+    told = []
+    while True:
+        try:
+            call()
+        except error:
+            return told
+        told.append(state(desk))
+
+
 def history(desk):
-    """All that can be undone and restored, told by a desk that is left as it was."""
-    told = [state(desk)]
-    undone, redone = 0, 0
-    try:
-        while True:
-            desk.undo()
-            undone += 1
-            told.append(state(desk))
-    except NothingToUndo:
-        pass
-    for _ in range(undone):
+    """How much can be undone and restored, and all these states, told by a desk that is left as it was."""
+    back = states_by(desk, desk.undo, NothingToUndo)
+    for _ in back:
         desk.redo()
-    try:
-        while True:
-            desk.redo()
-            redone += 1
-            told.append(state(desk))
-    except NothingToRedo:
-        pass
-    for _ in range(redone):
+    onward = states_by(desk, desk.redo, NothingToRedo)
+    for _ in onward:
         desk.undo()
-    return (undone, redone, told)
+    return (len(back), len(onward), [state(desk)] + back + onward)
 
 
 def links_and_more(house):

@@ -258,6 +258,18 @@ class Lengths(unittest.TestCase):
         closed = House([10], [4], [("over", 0, 0), ("over", 0, 10)])
         self.assertIsNone(least_length(closed, EXAMPLE_TASK))
 
+    def test_two_picks_in_each_of_six_aisles(self):
+        house = House([6, 6], [3, 4, 5, 3, 4], [])
+        task = Task((0, 0), (5, 12), [(aisle, height) for aisle in range(6) for height in (2, 9)])
+        self.assertEqual(least_length(house, task), 93)
+        self.assertEqual(product_of(house, task, 0, 5), {(NONE, DONE): 93})
+
+    def test_calls_one_after_another_do_not_matter_to_each_other(self):
+        cases = self.all_tasks()[::7]
+        alone = [lengths_from(house, task) for house, task in cases]
+        for (house, task), wanted in reversed(list(zip(cases, alone))):
+            self.assertEqual(lengths_from(house, task), wanted)
+
     def all_tasks(self):
         wide = [House([2], [1, 1, 1], [("up", 1, 0)]), House([1, 1], [1, 2, 1], [("over", 1, 1)])]
         return [(house, task) for house in helpers.small_houses() + wide for task in helpers.small_tasks(house)]
