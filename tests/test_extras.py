@@ -132,6 +132,16 @@ class Extras(unittest.TestCase):
         self.assertEqual(free_places(house, task), [place for place, number in extras.items() if number == 0])
 
 
+    def test_60_picks(self):
+        # A pick more than a task may have: both aisles are walked from the height 0 alone.
+        house = House([40, 40], [1], [("over", 0, 40), ("over", 0, 80)])
+        task = Task((0, 0), (0, 0), [(1, height) for height in range(1, 61)])
+        extras = extras_of(house, task)
+        self.assertEqual(extras, {(aisle, height): 2 * height if aisle == 0 else 2 * max(height - 60, 0)
+                                  for aisle, height in house.places()})
+        self.assertEqual([extra(house, task, place) for place in [(0, 7), (1, 70), (1, 60)]], [14, 20, 0])
+
+
 class FreePlaces(unittest.TestCase):
     def test_places_that_least_rounds_pass(self):
         for house, task in cases():
